@@ -1,0 +1,90 @@
+"""Conventions: [A3] and the interface, and [A2] (a) for curves and step curves."""
+
+import importlib
+import inspect
+import unittest
+
+from tests.oracle import Draw, curve_knots, pair
+from tests.support import Case
+from unsureworks.curves import (curve_scaled, curve_shifted, curve_stretched, curves_added, curves_multiplied,
+                                cut_curve)
+from unsureworks.numbers import over
+from unsureworks.stepcurves import heap_step, step_scaled, steps_added, steps_multiplied
+
+INTERFACE = {
+    "numbers": "is_fraction plus less times over order fraction_text read_fraction",
+    "polynomials": "at added multiplied scaled slope_of heap_of shifted stretched",
+    "curves": "curve_error sides curves_added curves_multiplied curve_scaled curve_shifted curve_stretched cut_curve "
+              "whole from_to below_at",
+    "stepcurves": "step_error step_at ahead_at behind_at steps_added steps_multiplied step_scaled heap_step",
+    "spreads": "spread_error even lump tent heaped chance_of mean moment ends",
+    "spreadtexts": "spread_text read_spread",
+}
+
+
+class TestInterface(unittest.TestCase):
+
+    def test_each_function_stands_in_its_module(self):
+        for module, names in INTERFACE.items():
+            for name in names.split():
+                with self.subTest(name):
+                    found = getattr(importlib.import_module(f"unsureworks.{module}"), name)
+                    self.assertEqual(found.__module__, f"unsureworks.{module}")
+                    self.assertTrue(inspect.isfunction(found))
+
+
+class TestEqualValues(Case):
+
+    def setUp(self):
+        draw = Draw(50)
+        self.curves = [(draw.curve(), draw.curve(), draw.curve()) for _ in range(60)]
+        self.steps = [(draw.step(), draw.step(), draw.step()) for _ in range(40)]
+
+    def test_curves_made_in_other_ways(self):
+        for one, other, third in self.curves:
+            both = curves_added(one, other)
+            self.gives(curves_added, (other, one), both)
+            self.gives(curves_added, (both, third), curves_added(one, curves_added(other, third)))
+            self.gives(curves_multiplied, (other, one), curves_multiplied(one, other))
+            self.gives(curves_multiplied, (both, third),
+                       curves_added(curves_multiplied(one, third), curves_multiplied(other, third)))
+            self.gives(curves_added, (both, curve_scaled(other, (-1, 1))), one)
+            self.gives(curve_scaled, (curve_scaled(one, (2, 3)), (3, 2)), one)
+            self.gives(curves_added, (one, one), curve_scaled(one, (2, 1)))
+
+    def test_curves_moved_there_and_back(self):
+        for one, other, _ in self.curves:
+            for f in ((2, 3), (-5, 1), (-1, 7)):
+                self.gives(curve_shifted, (curve_shifted(one, f), (-f[0], f[1])), one)
+                self.gives(curve_stretched, (curve_stretched(one, f), over((1, 1), f)), one)
+                self.gives(curves_added, (curve_shifted(one, f), curve_shifted(other, f)),
+                           curve_shifted(curves_added(one, other), f))
+
+    def test_curves_cut_and_put_together(self):
+        for one, other, _ in self.curves:
+            for place in curve_knots(one, other) + [1]:
+                low, high = cut_curve(one, (-99, 1), pair(place)), cut_curve(one, pair(place), (99, 1))
+                self.gives(curves_added, (low, high), one)
+                self.gives(curves_added, (high, low), one)
+
+    def test_step_curves_made_in_other_ways(self):
+        for one, other, third in self.steps:
+            both = steps_added(one, other)
+            self.gives(steps_added, (other, one), both)
+            self.gives(steps_added, (both, third), steps_added(one, steps_added(other, third)))
+            self.gives(steps_multiplied, (other, one), steps_multiplied(one, other))
+            self.gives(steps_multiplied, (both, third),
+                       steps_added(steps_multiplied(one, third), steps_multiplied(other, third)))
+            self.gives(steps_added, (both, step_scaled(other, (-1, 1))), one)
+            self.gives(steps_added, (one, one), step_scaled(one, (2, 1)))
+
+    def test_heaps_made_in_other_ways(self):
+        draw = Draw(51)
+        for one, other, _ in self.curves:
+            lumps = draw.lumps()
+            self.gives(heap_step, (curves_added(one, other), lumps),
+                       steps_added(heap_step(one, lumps), heap_step(other, ())))
+
+
+if __name__ == "__main__":
+    unittest.main()

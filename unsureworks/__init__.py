@@ -1,0 +1,1 @@
+"""Unsureworks: reckoning exactly with numbers that are not known."""

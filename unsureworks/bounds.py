@@ -1,0 +1,20 @@
+"""All bounds that the document sets, under the names that it gives them."""
+
+MAX_DRAWS = 3
+MAX_LONG = 12
+MAX_BOXES = 12
+MAX_GREAT = 1000000
+MAX_LINES = 12
+MAX_CHOICES = 4
+MAX_COMPARED = 4
+MAX_NESTED = 40
+MAX_MATTER = 6
+MAX_MATTER_THREE = 4
+MAX_BODY = 12
+MAX_CELLS = 81
+MAX_PAIRS = 100
+MAX_DEGREE = 40
+MAX_OFTEN = 16
+MAX_STEPS = 400
+MAX_EDITS = 40
+BATCH = 12

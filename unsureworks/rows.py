@@ -1,7 +1,6 @@
-"""Rows: lists of integers that are the factors of a polynomial, that of power 0 first.
+"""Rows: lists of integers that are the factors of a polynomial, that of power 0 first, the last one not 0.
 
-What is reckoned with rows needs no common divisors on the way. Two rows that are divided by one another have no
-0 at their ends.
+What is reckoned with rows needs no common divisors on the way.
 """
 
 from math import gcd, isqrt, lcm
@@ -19,10 +18,7 @@ def row_of(p):
 
 def polynomial_of(row, bottom):
     """The polynomial that has the factors of a row, each divided by bottom."""
-    length = len(row)
-    while length > 0 and row[length - 1] == 0:
-        length -= 1
-    return tuple([reduced(top, bottom) for top in row[:length]])
+    return tuple([reduced(top, bottom) for top in row])
 
 
 def powers_of(base, many):
@@ -53,7 +49,7 @@ def row_shifted(row, by):
 
 
 def rows_multiplied(one, other):
-    """The product of two rows, neither of which is empty."""
+    """The product of two rows that are not empty."""
     found = [0] * (len(one) + len(other) - 1)
     for place, factor in enumerate(one):
         for further, by in enumerate(other):
@@ -63,13 +59,12 @@ def rows_multiplied(one, other):
 
 def row_divided(row, by):
     """The row that makes the given one when it is multiplied with by, or None if there is none."""
-    if len(row) < len(by):
-        return None
     left = list(row)
     found = [0] * (len(row) - len(by) + 1)
     for place in range(len(found) - 1, -1, -1):
         found[place], rest = divmod(left[place + len(by) - 1], by[-1])
         if rest != 0:
+            # Going on would come to None as well, but over ever greater numbers.
             return None
         for further, factor in enumerate(by):
             left[place + further] -= found[place] * factor
@@ -92,9 +87,10 @@ def plain_row(row):
 def common_row(one, other):
     """The greatest common divisor of two plain rows that are not empty, as a plain row.
 
-    At a spot that is at least twice as far off as all places where one is 0, what the rows come to has a common
-    divisor whose figures, the spot being their base, are the factors of the one that is sought, if only the spot is
-    great enough; and what divides both rows is the greatest that does.
+    What both rows come to at a great spot has a common divisor; its figures, with the spot as their base, are taken as
+    factors. If the row that they make, made plain, divides both rows, it is the greatest that does: a greater one
+    would be so many times greater at the spot, which is more than twice as far off as all places where one is 0,
+    that the figures could not have had it as a common divisor. And if the spot is great enough it does divide both.
     """
     spot = 2 * max([abs(factor) for factor in one]) + 2
     while True:

@@ -30,7 +30,7 @@ type vars sys typing typing_extensions enum Enum IntEnum StrEnum Flag IntFlag Ge
 NamedTuple TypedDict TYPE_CHECKING abstractmethod dataclass overload contextmanager""".split())
 BARRED_NODES = {
     ast.Global: "L6", ast.AsyncFunctionDef: "L6", ast.Await: "L6", ast.AsyncFor: "L6", ast.AsyncWith: "L6",
-    ast.Div: "L7", ast.GeneratorExp: "L7", ast.MatMult: "L7", ast.Import: "L16",
+    ast.GeneratorExp: "L7", ast.Import: "L16",
 }
 PLAIN_NAME = re.compile("_|_?[A-Za-z][A-Za-z0-9_]*|__(init|eq|ne|repr|str|len|iter|contains|getitem|call)__")
 
@@ -89,6 +89,8 @@ def node_faults(node, own_methods):
     """Faults of a single node."""
     if type(node) in BARRED_NODES:
         yield BARRED_NODES[type(node)], node
+    if isinstance(node, (ast.BinOp, ast.AugAssign)) and isinstance(node.op, (ast.Div, ast.MatMult)):
+        yield "L7", node
     if isinstance(node, ast.Constant) and isinstance(node.value, (float, complex)):
         yield "L7", node
     if isinstance(node, ast.Constant) and isinstance(node.value, str) and "%" in node.value:

@@ -179,13 +179,13 @@ class Draw:
 
     def curve(self, many=5, degree=3):
         """A curve; pieces touch, leave gaps, and have the polynomials of others."""
-        knots = self.knots(self.lot.randint(0, many) + 1)
-        polys = [poly(1), poly(-1), poly(0, 1)] + [self.small_poly(degree) for _ in range(3)]
+        knots = self.knots(self.lot.randint(0, many) + 1 + self.lot.randint(0, 1))
+        polys = [poly(1), poly(-1), poly(0, 1)] + [self.small_poly(degree) for _ in range(4)]
         curve = []
         for low, high in zip(knots, knots[1:]):
             p = self.lot.choice(polys)
             touches = curve and curve[-1][1] == pair(low)
-            if self.lot.random() < 0.25 or p == () or (touches and curve[-1][2] == p):
+            if self.lot.random() < 0.15 or p == () or (touches and curve[-1][2] == p):
                 continue
             curve.append((pair(low), pair(high), p))
         return tuple(curve)
@@ -220,9 +220,9 @@ class Draw:
 
     def spread(self):
         """A spread, with lumps at knots, in pieces and outside."""
-        lumps = self.lumps()
+        lumps = self.lumps() if self.lot.random() < 0.6 else ()
         curve = []
-        for low, high, p in self.curve():
+        for low, high, p in self.curve(8):
             p = poly_plus(poly_times(p, p), poly(self.lot.choice([0, 1])))
             if not (curve and curve[-1][1] == low and curve[-1][2] == p):
                 curve.append((low, high, p))

@@ -295,6 +295,8 @@ class TestAsking(Case):
         for spread in self.spreads:
             places = curve_knots(spread[1]) + [value(place) for place, _ in spread[0]]
             self.gives(ends, (spread,), (pair(min(places)), pair(max(places))))
+        self.gives(ends, (((), (piece(0, 1, QUARTER), piece(2, 3, HALF), piece(4, 5, QUARTER))),), ((0, 1), (5, 1)))
+        self.gives(ends, (((weight(0, THIRD), weight(1, THIRD), weight(2, THIRD)), ()),), ((0, 1), (2, 1)))
         self.gives(ends, (OUTSIDE,), ((-5, 1), (7, 1)))
         self.gives(ends, (INSIDE,), ((0, 1), (1, 1)))
         self.gives(ends, (HIGH_LUMP,), ((-3, 1), (4, 1)))

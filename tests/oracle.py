@@ -4,7 +4,7 @@ What is drawn is the same in each run: all drawing starts from a number that the
 """
 
 from fractions import Fraction
-from math import gcd
+from math import comb, gcd, lcm
 
 
 def value(f):
@@ -148,6 +148,188 @@ def is_step(step):
     return len(ahead) <= 1
 
 
+def poly_slope(p):
+    """The derivative of a polynomial."""
+    return poly(*[k * value(f) for k, f in enumerate(p)][1:])
+
+
+def whole_row(numbers):
+    """Integers that are the same positive multiple of all numbers, without a common divisor."""
+    bottom = lcm(*[Fraction(number).denominator for number in numbers])
+    tops = [int(number * bottom) for number in numbers]
+    return [top // gcd(*tops) for top in tops]
+
+
+def sturm_rows(p):
+    """Sturm's rows of a polynomial that is not ()."""
+    rows = [whole_row([value(f) for f in p])]
+    if len(p) == 1:
+        return rows
+    rows.append(whole_row([value(f) for f in poly_slope(p)]))
+    while True:
+        left, by = list(rows[-2]), rows[-1]
+        while len(left) >= len(by):
+            top = left[-1]
+            left = [factor * abs(by[-1]) for factor in left]
+            for place in range(len(by)):
+                left[len(left) - len(by) + place] -= top * by[place] * (1 if by[-1] > 0 else -1)
+            left.pop()
+        while left and left[-1] == 0:
+            left.pop()
+        if not left:
+            return rows
+        rows.append(whole_row([-factor for factor in left]))
+
+
+def places_between(p, low, high, rows=None):
+    """At how many places between two Fractions a polynomial is 0; it is not 0 at these two."""
+    changes = []
+    for x in (Fraction(low), Fraction(high)):
+        signs = []
+        for row in rows or sturm_rows(p):
+            worth = 0
+            for power, factor in enumerate(row):
+                worth += factor * x.numerator ** power * x.denominator ** (len(row) - 1 - power)
+            if worth:
+                signs.append(worth > 0)
+        changes.append(sum(1 for a, b in zip(signs, signs[1:]) if a != b))
+    return changes[0] - changes[1]
+
+
+def only_place(p, low, high):
+    """The Fraction between two others at which a polynomial, that is 0 once there, is 0; None if it is none."""
+    rows = sturm_rows(p)
+    last = abs(rows[0][-1])
+    while high - low > Fraction(1, 2 * last * last):
+        middle = (low + high) / 2
+        if poly_value(p, middle) == 0:
+            return middle
+        if places_between(p, low, middle, rows) == 1:
+            high = middle
+        else:
+            low = middle
+    place = ((low + high) / 2).limit_denominator(last)
+    return place if poly_value(p, place) == 0 else None
+
+
+def poly_of_places(*places):
+    """The polynomial that is 0 at these Fractions."""
+    result = poly(1)
+    for place in places:
+        result = poly_times(result, poly(-Fraction(place), 1))
+    return result
+
+
+def poly_at_line(p, start, rate):
+    """The polynomial that has at each u what p has at start + rate * u, all Fractions."""
+    result, power = poly(), poly(1)
+    for f in p:
+        result = poly_plus(result, poly_times(power, poly(value(f))))
+        power = poly_times(power, poly(start, rate))
+    return result
+
+
+def end_factors(r, begin, end):
+    """What, but for positive numbers, the factors c_0 .. c_n of a sign paper's item are."""
+    numbers = [value(f) for f in poly_at_line(r, begin, end - begin)]
+    n = len(r) - 1
+    return [sum((numbers[j] * comb(i, j) / comb(n, j) for j in range(min(i + 1, len(numbers)))), Fraction(0))
+            for i in range(n + 1)]
+
+
+def is_sign_paper(p, low, high, paper):
+    """Whether something is a sign paper of a polynomial between two fractions."""
+    if type(paper) is not tuple or paper == ():
+        return False
+    ahead = low
+    for item in paper:
+        if type(item) is not tuple or len(item) != 4 or not is_pair(item[0]) or not is_pair(item[1]):
+            return False
+        begin, end, s, r = item
+        if not is_poly(s) or not is_poly(r) or begin != ahead or value(begin) >= value(end):
+            return False
+        if poly_times(poly_times(s, s), r) != p or min(end_factors(r, value(begin), value(end)), default=0) < 0:
+            return False
+        ahead = end
+    return ahead == high
+
+
+def poly_behind(p, x):
+    """The polynomial that has at each u what p has at the Fraction x less u."""
+    return poly_at_line(p, x, -1)
+
+
+def chance_up_to(spread, x):
+    """The chance of a spread's number to be at most a Fraction."""
+    total = sum((value(weight) for place, weight in spread[0] if value(place) <= x), Fraction(0))
+    for low, high, p in spread[1]:
+        if value(low) < x:
+            total += poly_integral(p, value(low), min(value(high), x))
+    return total
+
+
+def sum_chance(one, other, x):
+    """The chance of the sum of two independent numbers to be at most a Fraction."""
+    total = sum((value(weight) * chance_up_to(other, x - value(place)) for place, weight in one[0]), Fraction(0))
+    places = [value(place) for place, _ in other[0]] + [value(f) for piece in other[1] for f in piece[:2]]
+    for low, high, p in one[1]:
+        low, high = value(low), value(high)
+        cuts = sorted({low, high} | {x - place for place in places if low < x - place < high})
+        for begin, end in zip(cuts, cuts[1:]):
+            middle = x - (begin + end) / 2
+            heap = poly(sum((value(weight) for place, weight in other[0] if value(place) < middle), Fraction(0)))
+            for a, b, q in other[1]:
+                rising = poly(*([0] + [value(f) / (k + 1) for k, f in enumerate(q)]))
+                if value(a) < middle < value(b):
+                    heap = poly_plus(heap, poly_plus(rising, poly(-poly_value(rising, value(a)))))
+                elif value(b) < middle:
+                    heap = poly_plus(heap, poly(poly_integral(q, value(a), value(b))))
+            total += poly_integral(poly_times(p, poly_behind(heap, x)), begin, end)
+    return total
+
+
+def many_chance(chances, many):
+    """The chance that so many or more of independent events come about."""
+    exactly = {0: Fraction(1)}
+    for chance in chances:
+        further = {}
+        for count, share in exactly.items():
+            further[count] = further.get(count, 0) + share * (1 - chance)
+            further[count + 1] = further.get(count + 1, 0) + share * chance
+        exactly = further
+    return sum((share for count, share in exactly.items() if count >= many), Fraction(0))
+
+
+def shared(lumps, pieces):
+    """The spread with lumps and pieces as told, all of them divided by what they make together."""
+    total = sum((Fraction(share) for _, share in lumps), Fraction(0))
+    total += sum((poly_integral(p, Fraction(low), Fraction(high)) for low, high, p in pieces), Fraction(0))
+    by = poly(1 / total)
+    return (tuple((pair(place), pair(Fraction(share) / total)) for place, share in lumps),
+            tuple((pair(low), pair(high), poly_times(p, by)) for low, high, p in pieces))
+
+
+def spread_mean(spread):
+    """The mean of a spread, as a Fraction."""
+    total = sum((value(place) * value(weight) for place, weight in spread[0]), Fraction(0))
+    return total + sum((poly_integral(poly_times(p, poly(0, 1)), value(low), value(high)) for low, high, p in spread[1]),
+                       Fraction(0))
+
+
+def spread_places(*spreads):
+    """The ascending list of the places of all lumps and of all knots, as Fractions."""
+    found = {value(place) for spread in spreads for place, _ in spread[0]}
+    return sorted(found | {value(f) for spread in spreads for piece in spread[1] for f in piece[:2]})
+
+
+def probes(places):
+    """Fractions at all places, twice between each and the next one, and outside."""
+    found = list(places) + [places[0] - 1, places[-1] + 1]
+    for low, high in zip(places, places[1:]):
+        found += [low + (high - low) / 3, low + (high - low) * Fraction(3, 4)]
+    return sorted(found)
+
+
 class Draw:
     """Draws things to try; where there is a choice, small and simple ones are likely."""
 
@@ -233,3 +415,100 @@ class Draw:
         lumps = tuple((place, pair(value(weight) / total)) for place, weight in lumps)
         share = poly(1 / total)
         return lumps, tuple((low, high, poly_times(p, share)) for low, high, p in curve)
+
+    def form(self, draws):
+        """A form; its numbers are often 0, and often those of other forms."""
+        def number():
+            return pair(self.lot.choice([0, 0, 1, -1, 1, 2, self.small(), self.small()]))
+        return tuple(number() for _ in range(draws)), number(), number()
+
+    def body(self, draws, many, words=("<", "<", "<=", "<=", "=")):
+        """A body."""
+        return tuple((self.form(draws), self.lot.choice(words)) for _ in range(many))
+
+    def line(self, names, word):
+        """A line with names less than this."""
+        a, b, x, y = [self.lot.randrange(names) for _ in range(4)]
+        if word == "sum":
+            some = sorted(self.lot.sample(range(names), self.lot.randint(0, min(3, names))))
+            return "sum", tuple((pair(self.lot.choice([0, 1, -1, self.small()])), name) for name in some), pair(self.small())
+        if word == "shift":
+            return "shift", a, pair(self.small())
+        if word in ("greatest", "least"):
+            return word, a, b
+        return "choice", a, self.lot.choice(["<", "<=", "="]), b, x, y
+
+    def program(self, draws, many, choices):
+        """A program of so many lines, of which so many choose; most of them use what stands just ahead."""
+        words = [self.lot.choice(["greatest", "least", "choice", "choice"]) for _ in range(choices)]
+        words += [self.lot.choice(["sum", "sum", "shift"]) for _ in range(many - choices)]
+        self.lot.shuffle(words)
+        return tuple(self.line(draws + place, word) for place, word in enumerate(words))
+
+    def saying(self, names, compared):
+        """A saying with so many compared sayings."""
+        if self.lot.random() < 0.2:
+            return "not", self.saying(names, compared)
+        if compared == 1:
+            return self.lot.choice(["<", "<=", "="]), self.lot.randrange(names), self.lot.randrange(names)
+        first = self.lot.randint(1, compared - 1)
+        return self.lot.choice(["and", "or"]), self.saying(names, first), self.saying(names, compared - first)
+
+    def point(self, draws):
+        """A point with few unlike numbers, so that some are often equal."""
+        return tuple(pair(self.lot.choice([0, 1, self.small()])) for _ in range(draws)), pair(self.lot.choice([0, 1, self.small()]))
+
+
+def form_value(form, numbers, t):
+    """What a form comes to, as a Fraction."""
+    factors, constant, by = form
+    return sum((value(f) * value(x) for f, x in zip(factors, numbers)), value(constant) + value(by) * value(t))
+
+
+def is_so(word, difference):
+    """Whether something compares with 0 as a word tells."""
+    return {"<": difference < 0, "<=": difference <= 0, "=": difference == 0}[word]
+
+
+def body_holds(body, numbers, t):
+    """Whether a body holds at a point."""
+    return all(is_so(word, form_value(form, numbers, t)) for form, word in body)
+
+
+def all_values(program, numbers, t):
+    """What all names come to, as Fractions."""
+    values = [value(number) for number in numbers]
+    for line in program:
+        if line[0] == "sum":
+            worth = sum((value(f) * values[name] for f, name in line[1]), value(line[2]))
+        elif line[0] == "shift":
+            worth = values[line[1]] + value(line[2]) * value(t)
+        elif line[0] == "choice":
+            worth = values[line[4]] if is_so(line[2], values[line[1]] - values[line[3]]) else values[line[5]]
+        else:
+            worth = (max if line[0] == "greatest" else min)(values[line[1]], values[line[2]])
+        values.append(worth)
+    return values
+
+
+def is_said(saying, values):
+    """Whether a saying is true of what all names come to."""
+    if saying[0] == "not":
+        return not is_said(saying[1], values)
+    if saying[0] in ("and", "or"):
+        both = [is_said(part, values) for part in saying[1:]]
+        return all(both) if saying[0] == "and" else any(both)
+    return is_so(saying[0], values[saying[1]] - values[saying[2]])
+
+
+def shares_paper(draws, body, paper):
+    """Whether something is a paper that there is no point in a body."""
+    if type(paper) is not tuple or len(paper) != len(body) or not all(is_pair(share) for share in paper):
+        return False
+    if any(value(share) < 0 and word != "=" for share, (_, word) in zip(paper, body)):
+        return False
+    sums = [sum((value(share) * value(form[0][k]) for share, (form, _) in zip(paper, body)), Fraction(0)) for k in range(draws)]
+    sums.append(sum((value(share) * value(form[2]) for share, (form, _) in zip(paper, body)), Fraction(0)))
+    constant = sum((value(share) * value(form[1]) for share, (form, _) in zip(paper, body)), Fraction(0))
+    counts = any(value(share) > 0 and word == "<" for share, (_, word) in zip(paper, body))
+    return not any(sums) and (constant > 0 or (constant == 0 and counts))

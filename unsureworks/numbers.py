@@ -14,11 +14,11 @@ def is_fraction(value):
     if not isinstance(value, tuple) or len(value) != 2:
         return False
     top, bottom = value
-    return _is_counted(top) and _is_counted(bottom) and bottom > 0 and gcd(top, bottom) == 1
+    return is_integer(top) and is_integer(bottom) and bottom > 0 and gcd(top, bottom) == 1
 
 
-def _is_counted(value):
-    """Whether value is an integer; True and False are none."""
+def is_integer(value):
+    """Whether value, any value, is an integer; True and False are none."""
     return isinstance(value, int) and not isinstance(value, bool)
 
 
@@ -89,6 +89,15 @@ def merged(one, other):
         if sign >= 0:
             second += 1
     return found + list(one[first:]) + list(other[second:])
+
+
+def ascending(fractions):
+    """The ascending list of some fractions, each once."""
+    rows = [[f] for f in fractions]
+    while len(rows) > 1:
+        pairs = [merged(one, other) for one, other in zip(rows[::2], rows[1::2])]
+        rows = pairs + rows[2 * len(pairs):]
+    return rows[0] if rows else []
 
 
 def fraction_text(f):

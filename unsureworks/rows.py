@@ -39,6 +39,41 @@ def row_at(row, place):
     return worth
 
 
+def row_sign(row, place):
+    """-1, 0 or 1: whether a row is below 0, 0 or above 0 at a fraction."""
+    top, bottom = place
+    worth, power = 0, 1
+    for factor in row[::-1]:
+        worth = worth * top + factor * power
+        power *= bottom
+    return (worth > 0) - (worth < 0)
+
+
+def row_squeezed(row, low, width):
+    """A row that has at each x the sign that the given one has at low + width * x; width is above 0."""
+    top, bottom = low
+    further, under = width
+    # With a bottom common to both, low + width * x is (top + further * x) / bottom.
+    top, further, bottom = top * under, further * bottom, bottom * under
+    powers = powers_of(bottom, len(row))
+    moved = row_shifted([factor * power for factor, power in zip(row, powers[::-1])], top)
+    return plain_row([factor * power for factor, power in zip(moved, powers_of(further, len(row)))])
+
+
+def row_halves(row):
+    """The pair of rows that have from 0 to 1 the signs that the given one has from 0 to 1/2, and from 1/2 to 1."""
+    left = [factor << (len(row) - 1 - power) for power, factor in enumerate(row)]
+    return left, row_shifted(left, 1)
+
+
+def end_row(row):
+    """The factors, but for positive numbers, that make a row of the distances from 0 and from 1.
+
+    With n the degree of the row, it is the sum of factors times x ** i * (1 - x) ** (n - i), the last one first.
+    """
+    return row_shifted(row[::-1], 1)
+
+
 def row_shifted(row, by):
     """The row that is at each x what the given one is at x + by, an integer."""
     found = list(row)
@@ -48,8 +83,16 @@ def row_shifted(row, by):
     return found
 
 
+def rows_added(one, other):
+    """The sum of two rows; it may be none, as its last factors may be 0."""
+    brief, wide = (one, other) if len(one) < len(other) else (other, one)
+    return [f + g for f, g in zip(brief, wide)] + wide[len(brief):]
+
+
 def rows_multiplied(one, other):
-    """The product of two rows that are not empty."""
+    """The product of two rows, or of two such sums; [] if one of them is []."""
+    if one == [] or other == []:
+        return []
     found = [0] * (len(one) + len(other) - 1)
     for place, factor in enumerate(one):
         for further, by in enumerate(other):

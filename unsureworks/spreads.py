@@ -73,11 +73,19 @@ def chance_of(spread, low, high, low_in, high_in):
     """The chance that a spread's number lies from low to high; whether each of these is in is told, too."""
     lumps, curve = spread
     total = from_to(curve, low, high)
+    for _, weight in lumps_within(lumps, low, high, low_in, high_in):
+        total = plus(total, weight)
+    return total
+
+
+def lumps_within(lumps, low, high, low_in, high_in):
+    """The list of those lumps that lie from low to high; whether each of these is in is told, too."""
+    found = []
     for place, weight in lumps:
         above, below = order(low, place), order(place, high)
         if (above < 0 or (above == 0 and low_in)) and (below < 0 or (below == 0 and high_in)):
-            total = plus(total, weight)
-    return total
+            found.append((place, weight))
+    return found
 
 
 def mean(spread):

@@ -78,7 +78,7 @@ def behind_at(step, f):
     return at(_polynomial_from(step, count), f)
 
 
-def _parts_at(step, knots):
+def parts_at(step, knots):
     """For each of the ascending knots the pair of a step curve's value there and of its polynomial from there on.
 
     All knots of the step curve are among them.
@@ -100,8 +100,8 @@ def _parts_at(step, knots):
 def _combined(one, other, act, act_wide):
     """The step curve made of two others: of fractions by act, of polynomials by act_wide."""
     knots = merged([item[0] for item in one[1]], [item[0] for item in other[1]])
-    first = _parts_at(one, knots)
-    second = _parts_at(other, knots)
+    first = parts_at(one, knots)
+    second = parts_at(other, knots)
     items = []
     for knot, (f, p), (g, q) in zip(knots, first, second):
         items.append((knot, act(f, g), act_wide(p, q)))

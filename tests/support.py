@@ -51,6 +51,20 @@ PARAMETERS = {
     "spread_error": "value", "even": "low high", "lump": "place", "tent": "low top high", "heaped": "spread",
     "chance_of": "spread low high low_in high_in", "mean": "spread", "moment": "spread k", "ends": "spread",
     "spread_text": "spread", "read_spread": "value",
+    "moved": "spread f", "grown": "spread f", "apart": "spread place", "joined": "one other",
+    "joined_often": "spread n", "greater": "one other", "lesser": "one other", "kth": "spreads k", "mixed": "rows",
+    "held": "spread low high low_in high_in", "rounded": "spread width",
+    "number_error": "value", "order_of": "one other", "near": "number width", "roots_of": "polynomial low high",
+    "quantile": "spread q",
+    "sign_paper": "polynomial low high", "sign_holds": "polynomial low high value",
+    "later_at": "one other", "never_later_paper": "one other", "never_later_holds": "one other value",
+    "worse_at": "one other", "never_worse_paper": "one other", "never_worse_holds": "one other value",
+    "close_paper": "one other gap", "close_holds": "one other gap value",
+    "program_error": "draws value", "saying_error": "names value", "form_at": "form numbers t",
+    "run": "program numbers t", "holds": "saying values",
+    "point_in": "draws body", "no_point_holds": "draws body value",
+    "cells": "draws program name", "cells_error": "draws program name value", "saying_cells": "draws program saying",
+    "world_error": "value", "is_numbers": "world value",
 }
 
 

@@ -2,10 +2,11 @@
 
 import importlib
 import inspect
+import pathlib
 import unittest
 
 from tests.oracle import Draw, curve_knots, pair
-from tests.support import Case
+from tests.support import PARAMETERS, Case, run_examples
 from unsureworks.curves import (curve_scaled, curve_shifted, curve_stretched, curves_added, curves_multiplied,
                                 cut_curve)
 from unsureworks.numbers import over
@@ -19,6 +20,15 @@ INTERFACE = {
     "stepcurves": "step_error step_at ahead_at behind_at steps_added steps_multiplied step_scaled heap_step",
     "spreads": "spread_error even lump tent heaped chance_of mean moment ends",
     "spreadtexts": "spread_text read_spread",
+    "making": "moved grown apart joined joined_often greater lesser kth mixed held rounded",
+    "roots": "number_error order_of near roots_of quantile",
+    "signs": "sign_paper sign_holds",
+    "orders": "later_at never_later_paper never_later_holds worse_at never_worse_paper never_worse_holds close_paper "
+              "close_holds",
+    "forms": "program_error saying_error form_at run holds",
+    "bodies": "point_in no_point_holds",
+    "cells": "cells cells_error saying_cells",
+    "worlds": "world_error is_numbers",
 }
 
 
@@ -31,6 +41,16 @@ class TestInterface(unittest.TestCase):
                     found = getattr(importlib.import_module(f"unsureworks.{module}"), name)
                     self.assertEqual(found.__module__, f"unsureworks.{module}")
                     self.assertTrue(inspect.isfunction(found))
+                    self.assertEqual(list(inspect.signature(found).parameters), PARAMETERS[name].split())
+
+
+class TestReadme(Case):
+
+    def test_examples(self):
+        text = (pathlib.Path(__file__).resolve().parent.parent / "README.md").read_text()
+        lines = [line for line in text.split("\n") if line.startswith("    ")]
+        self.assertGreater(len([line for line in lines if line.startswith("    >>> ")]), 10)
+        run_examples(self, "\n".join(lines))
 
 
 class TestEqualValues(Case):

@@ -341,6 +341,13 @@ class TestRootsOf(Case):
             for low, high in ((-9, 9), (0, 0), (0, THIRD), (-GREAT, GREAT)):
                 self.check(p, low, high, [])
 
+    def test_fractions_as_great_as_the_factors_allow(self):
+        for count in list(range(1, 130)) + [3 ** 8 // 2 - 1, 3 ** 16 // 2 - 1, 3 ** 32 // 2 - 1, 3 ** 64 // 2 - 1]:
+            for place in (Fraction(count), Fraction(-count), Fraction(1, count), Fraction(-1, count), Fraction(count, count + 1)):
+                expected = (pair(place),)
+                self.assertEqual(roots_of(poly(-place, 1), (-GREAT, 1), (GREAT, 1)), expected)
+                self.assertEqual(roots_of(poly_times(poly(-place, 1), poly(1, 1, 1)), (-GREAT, 1), (GREAT, 1)), expected)
+
     def test_low_equal_to_high(self):
         for p, place, expected in ((poly(-1, 2), HALF, [(1, 2)]), (poly(-1, 2), THIRD, []), (poly(0, 1), 0, [(0, 1)]),
                                    (poly_of_places(1, 1, 1), 1, [(1, 1)]), (TWO, 1, []), (poly(7), 0, [])):

@@ -65,6 +65,16 @@ PARAMETERS = {
     "point_in": "draws body", "no_point_holds": "draws body value",
     "cells": "draws program name", "cells_error": "draws program name value", "saying_cells": "draws program saying",
     "world_error": "value", "is_numbers": "world value",
+    "body_integral": "draws body powers",
+    "chance": "world program saying", "chance_given": "world program saying seen",
+    "mean_of": "world program name seen", "mean_product": "world program one other seen",
+    "spread_of": "world program name seen", "by_parts": "world program name",
+    "unlike_at": "world program one other", "above_at": "world program one other",
+    "surely_alike": "world program one other", "alike_in_spread": "world program one other",
+    "chance_line": "world program saying seen", "sooner": "world program one other",
+    "are_apart": "world program saying further seen", "tie_at": "world program name saying seen",
+    "look": "world program name cuts seen", "helped": "world program name looked cuts seen",
+    "sheet_text": "sheet", "read_sheet": "value",
 }
 
 

@@ -1,10 +1,10 @@
 """Cells: all points parted into bodies, in each of which a name comes to what one form does."""
 
 from unsureworks.bodies import point_of, spot_apart, vector_of
-from unsureworks.bounds import MAX_BODY, MAX_CELLS, MAX_DRAWS, MAX_MATTER, MAX_MATTER_THREE
+from unsureworks.bounds import MAX_BODY, MAX_CELLS
 from unsureworks.coverings import point_in_none, point_in_two
-from unsureworks.errors import TooMany
-from unsureworks.forms import compared_in, forms_added, hung_on, is_choice, is_form, is_true, is_word, names_in
+from unsureworks.forms import compared_in, forms_added, is_form, is_true, is_word, names_in
+from unsureworks.matters import refuse_many
 from unsureworks.ways import part_of, truths_of, ways_of
 
 
@@ -59,15 +59,10 @@ def _point_of_other(draws, program, name, body, form):
 
 def saying_cells(draws, program, saying):
     """Any tuple of bodies, no two of which hold at one point, one of which holds just where a saying does."""
-    compared = compared_in(saying)
-    names = names_in(saying)
-    limit = MAX_MATTER_THREE if draws == MAX_DRAWS else MAX_MATTER
-    choices = [name for name in hung_on(draws, program, names) if name >= draws and is_choice(program[name - draws])]
-    if len(choices) + len(compared) > limit:
-        raise TooMany(limit)
+    refuse_many(draws, program, [], [saying], 0)
     found = []
-    for way, forms in ways_of(draws, program, names, part_of(draws, ())):
-        for part, truths in truths_of(way, forms, compared):
+    for way, forms in ways_of(draws, program, names_in(saying), part_of(draws, ())):
+        for part, truths in truths_of(way, forms, compared_in(saying)):
             if is_true(saying, {told: truth for told, truth in truths}):
                 found.append(part[0])
     return tuple(found)

@@ -10,7 +10,7 @@ def program_error(draws, value):
         return "form"
     choices = 0
     for place, item in enumerate(value):
-        if not _is_line(item, draws + place):
+        if not _is_line_behind(item, draws + place):
             return ("line", place)
         if is_choice(item):
             choices += 1
@@ -24,24 +24,24 @@ def is_choice(line):
     return line[0] in ("greatest", "least", "choice")
 
 
-def _is_line(value, names):
+def _is_line_behind(value, names):
     """Whether value, any value, is a line in which all names are less than names."""
+    return is_line(value, lambda name: is_integer(name) and 0 <= name and name < names)
+
+
+def is_line(value, is_named):
+    """Whether value, any value, is a line, is_named telling of any value whether it can be a name there."""
     if not isinstance(value, tuple) or len(value) < 3:
         return False
     if value[0] == "sum" and len(value) == 3:
-        return _are_terms(value[1], names) and is_fraction(value[2])
+        return _are_terms(value[1], is_named) and is_fraction(value[2])
     if (value[0] == "greatest" or value[0] == "least") and len(value) == 3:
-        return _is_name(value[1], names) and _is_name(value[2], names)
+        return is_named(value[1]) and is_named(value[2])
     if value[0] == "choice" and len(value) == 6:
-        return is_word(value[2]) and all([_is_name(value[place], names) for place in (1, 3, 4, 5)])
+        return is_word(value[2]) and all([is_named(value[place]) for place in (1, 3, 4, 5)])
     if value[0] == "shift" and len(value) == 3:
-        return _is_name(value[1], names) and is_fraction(value[2])
+        return is_named(value[1]) and is_fraction(value[2])
     return False
-
-
-def _is_name(value, names):
-    """Whether value, any value, is a name less than names."""
-    return is_integer(value) and 0 <= value and value < names
 
 
 def is_word(value):
@@ -49,43 +49,40 @@ def is_word(value):
     return value == "<" or value == "<=" or value == "="
 
 
-def _are_terms(value, names):
-    """Whether value, any value, is a tuple of pairs (fraction, name), the names ascending and less than names."""
+def _are_terms(value, is_named):
+    """Whether value, any value, is a tuple of pairs (fraction, name), the names ascending."""
     if not isinstance(value, tuple):
         return False
-    least = 0
-    for item in value:
-        if not isinstance(item, tuple) or len(item) != 2 or not is_fraction(item[0]):
+    for place, item in enumerate(value):
+        if not isinstance(item, tuple) or len(item) != 2 or not is_fraction(item[0]) or not is_named(item[1]):
             return False
-        if not _is_name(item[1], names) or item[1] < least:
+        if place > 0 and item[1] <= value[place - 1][1]:
             return False
-        least = item[1] + 1
     return True
 
 
 def saying_error(names, value):
     """None if value, any value, is a saying whose names are all less than names; otherwise what is wrong with it."""
-    if not _has_form_of_saying(value, MAX_NESTED):
+    if not is_saying(value, lambda name: is_integer(name) and name >= 0):
         return "form"
-    compared = compared_in(value)
-    if len(compared) > MAX_COMPARED:
-        return "form"
-    for _, a, b in compared:
-        if a >= names or b >= names:
-            return "name"
-    return None
+    return "name" if max(names_in(value)) >= names else None
 
 
-def _has_form_of_saying(value, deep):
-    """Whether value, any value, is a saying at most so deep, of any names and of any number of comparisons."""
+def is_saying(value, is_named):
+    """Whether value, any value, is a saying, is_named telling of any value whether it can be a name there."""
+    return _has_form_of_saying(value, is_named, MAX_NESTED) and len(compared_in(value)) <= MAX_COMPARED
+
+
+def _has_form_of_saying(value, is_named, deep):
+    """Whether value, any value, is a saying at most so deep, but for its number of comparisons."""
     if not isinstance(value, tuple) or len(value) < 2 or deep == 0:
         return False
     if is_word(value[0]):
-        return len(value) == 3 and all([is_integer(name) and name >= 0 for name in value[1:]])
+        return len(value) == 3 and is_named(value[1]) and is_named(value[2])
     if value[0] == "not" and len(value) == 2:
-        return _has_form_of_saying(value[1], deep - 1)
+        return _has_form_of_saying(value[1], is_named, deep - 1)
     if (value[0] == "and" or value[0] == "or") and len(value) == 3:
-        return _has_form_of_saying(value[1], deep - 1) and _has_form_of_saying(value[2], deep - 1)
+        return all([_has_form_of_saying(part, is_named, deep - 1) for part in value[1:]])
     return False
 
 
@@ -108,12 +105,12 @@ def hung_on(draws, program, names):
     marked = {name: True for name in names}
     for place in range(len(program) - 1, -1, -1):
         if draws + place in marked:
-            for name in _names_in_line(program[place]):
+            for name in names_in_line(program[place]):
                 marked[name] = True
     return sorted(marked)
 
 
-def _names_in_line(line):
+def names_in_line(line):
     """The list of the names in a line."""
     if line[0] == "sum":
         return [name for _, name in line[1]]

@@ -25,7 +25,7 @@ def grown(spread, f):
     lumps, curve = spread
     products = [(times(place, f), weight) for place, weight in lumps]
     height = over((1, 1), (abs(f[0]), f[1]))
-    return _lumps_of(products), curve_scaled(curve_stretched(curve, f), height)
+    return lumps_of(products), curve_scaled(curve_stretched(curve, f), height)
 
 
 def apart(spread, place):
@@ -33,13 +33,13 @@ def apart(spread, place):
     lumps, curve = moved(spread, contrary(place))
     distances = [((abs(top), bottom), weight) for (top, bottom), weight in lumps]
     if curve == ():
-        return _lumps_of(distances), ()
+        return lumps_of(distances), ()
     least, greatest = lesser_of(curve[0][0], (0, 1)), greater_of(curve[-1][1], (0, 1))
     behind = curve_stretched(cut_curve(curve, least, (0, 1)), (-1, 1))
-    return _lumps_of(distances), curves_added(behind, cut_curve(curve, (0, 1), greatest))
+    return lumps_of(distances), curves_added(behind, cut_curve(curve, (0, 1), greatest))
 
 
-def _lumps_of(pairs):
+def lumps_of(pairs):
     """The lumps made of pairs of a place and a weight: what is at one place is one lump, what weighs 0 is none."""
     weights = {}
     for place, weight in pairs:
@@ -168,7 +168,7 @@ def _spread_heaped(knots, polynomials):
         lumps.append((knot, less(at(polynomial, knot), at(ahead, knot))))
         pieces.append((knot, end, slope_of(polynomial)))
         ahead = polynomial
-    return _lumps_of(lumps), tidied(pieces)
+    return lumps_of(lumps), tidied(pieces)
 
 
 def mixed(rows):
@@ -184,7 +184,7 @@ def mixed(rows):
     for share, spread in rows:
         lumps += [(place, times(weight, share)) for place, weight in spread[0]]
         curve = curves_added(curve, curve_scaled(spread[1], share))
-    return _lumps_of(lumps), curve
+    return lumps_of(lumps), curve
 
 
 def held(spread, low, high, low_in, high_in):
@@ -210,7 +210,7 @@ def rounded(spread, width):
     for count in range(_count_of(least, width), _count_of(greatest, width) + 1):
         begin = times((count, 1), width)
         found.append((begin, from_to(curve, begin, plus(begin, width))))
-    return _lumps_of(found), ()
+    return lumps_of(found), ()
 
 
 def _count_of(f, width):

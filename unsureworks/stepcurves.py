@@ -41,7 +41,7 @@ def _can_be_left_out(item, ahead):
     return polynomial == ahead and worth == at(ahead, knot)
 
 
-def _tidied(left, items):
+def steps_tidied(left, items):
     """The step curve of ascending items, some of which may be such as can be left out."""
     kept = []
     ahead = constant_of(left)
@@ -105,7 +105,7 @@ def _combined(one, other, act, act_wide):
     items = []
     for knot, (f, p), (g, q) in zip(knots, first, second):
         items.append((knot, act(f, g), act_wide(p, q)))
-    return _tidied(act(one[0], other[0]), items)
+    return steps_tidied(act(one[0], other[0]), items)
 
 
 def steps_added(one, other):
@@ -122,7 +122,7 @@ def step_scaled(step, f):
     """The product of a step curve and a fraction."""
     left, items = step
     products = [(knot, times(worth, f), scaled(polynomial, f)) for knot, worth, polynomial in items]
-    return _tidied(times(left, f), products)
+    return steps_tidied(times(left, f), products)
 
 
 def heap_step(curve, lumps):
@@ -136,4 +136,4 @@ def heap_step(curve, lumps):
         rising = heap_of(polynomial)
         heap = added(rising, constant_of(less(worth, at(rising, knot))))
         items.append((knot, worth, heap))
-    return _tidied((0, 1), items)
+    return steps_tidied((0, 1), items)

@@ -6,7 +6,7 @@ of a body, of its comparisons' rows, and of the cone that they leave. Parts that
 
 from unsureworks.bodies import rows_of, spot_of
 from unsureworks.cones import all_points, kept
-from unsureworks.forms import constant_form, draw_form, forms_added, hung_on, is_constant, signs_of
+from unsureworks.forms import constant_form, draw_form, forms_added, hung_on, is_choice, is_constant, signs_of
 from unsureworks.numbers import order, plus
 
 
@@ -25,7 +25,7 @@ def ways_of(draws, program, names, part):
     for place, line in enumerate(program):
         further = []
         for ahead, forms in ways:
-            outcomes = _forms_of(draws, line, forms) if draws + place in needed else [((), None)]
+            outcomes = _forms_of(line, forms) if draws + place in needed else [((), None)]
             further += [(_narrowed(ahead, body), forms + [form]) for body, form in outcomes]
         ways = [way for way in further if way[0] is not None]
     return ways
@@ -59,23 +59,30 @@ def _narrowed(part, body):
     return ahead + body, rows + more, cone
 
 
-def _forms_of(draws, line, forms):
-    """The list of pairs of a body and of the form that a line has where this holds, the names ahead having forms."""
-    word = line[0]
-    if word == "sum":
-        total = constant_form(draws, line[2])
-        for factor, name in line[1]:
-            total = forms_added(total, forms[name], factor)
-        return [((), total)]
-    if word == "shift":
+def form_of_line(forms, line):
+    """The form that a line that does not choose has, the names ahead having forms."""
+    if line[0] == "shift":
         factors, constant, by = forms[line[1]]
-        return [((), (factors, constant, plus(by, line[2])))]
-    if word == "choice":
-        _, a, compared, b, x, y = line
-    else:
-        _, a, b = line
-        compared = "<"
-        x, y = (b, a) if word == "greatest" else (a, b)
+        return factors, constant, plus(by, line[2])
+    total = constant_form(len(forms[0][0]), line[2])
+    for factor, name in line[1]:
+        total = forms_added(total, forms[name], factor)
+    return total
+
+
+def choice_of(line):
+    """What a line that chooses says, as a choice does: a tuple (a, word, b, x, y)."""
+    if line[0] == "choice":
+        return line[1:]
+    _, a, b = line
+    return (a, "<", b, b, a) if line[0] == "greatest" else (a, "<", b, a, b)
+
+
+def _forms_of(line, forms):
+    """The list of pairs of a body and of the form that a line has where this holds, the names ahead having forms."""
+    if not is_choice(line):
+        return [((), form_of_line(forms, line))]
+    a, compared, b, x, y = choice_of(line)
     outcomes = _outcomes_of(compared, forms[a], forms[b])
     return [(body, forms[x] if truth else forms[y]) for body, truth in outcomes]
 

@@ -123,11 +123,10 @@ def total(world, program, asked, saying):
     return found
 
 
-def portion(box, program, asked, saying):
-    """The portion of a box."""
+def inner_and_planes(box, program, saying):
+    """The pair of the draws with a piece in a box, and of all planes of these at which something may change."""
     inner = [place for place, item in enumerate(box) if len(item) == 3]
-    known, share = [], Fraction(1)
-    walls = set()
+    known, walls = [], set()
     for place, item in enumerate(box):
         factors = tuple(Fraction(place == other) for other in inner)
         if len(item) == 3:
@@ -135,8 +134,15 @@ def portion(box, program, asked, saying):
             walls |= {factors + (-value(item[0]),), factors + (-value(item[1]),)}
         else:
             known.append(factors + (value(item[0]),))
-            share *= value(item[1])
-    planes = [plane for plane in planes_of(program, saying, known) | walls if any(plane[:-1])]
+    return inner, [plane for plane in planes_of(program, saying, known) | walls if any(plane[:-1])]
+
+
+def portion(box, program, asked, saying):
+    """The portion of a box."""
+    inner, planes = inner_and_planes(box, program, saying)
+    share = Fraction(1)
+    for item in box:
+        share *= value(item[1]) if len(item) == 2 else 1
     degree = sum(len(box[place][2]) - 1 for place in inner) + len(asked)
 
     def worth(point):
@@ -156,6 +162,19 @@ def portion(box, program, asked, saying):
             result *= values[name]
         return result
     return share * nested(planes, len(inner), degree, worth)
+
+
+def constant(number):
+    """A line that comes to a number."""
+    return "sum", (), pair(number)
+
+
+def many(saying, often):
+    """A saying with as many compared sayings, each the same."""
+    found = saying
+    for _ in range(often - 1):
+        found = ("and", found, saying)
+    return found
 
 
 def at_t(program, t):
@@ -264,16 +283,7 @@ def points_of_all_parts(planes, many):
 def numbers_of_all_parts(world, program, one, other):
     """Numbers of a world: where two names can compare in some way, they do so at one of these."""
     for box in itertools.product(*[lumps + curve for lumps, curve in world]):
-        inner = [place for place, item in enumerate(box) if len(item) == 3]
-        known, walls = [], set()
-        for place, item in enumerate(box):
-            factors = tuple(Fraction(place == other_place) for other_place in inner)
-            if len(item) == 3:
-                known.append(factors + (Fraction(0),))
-                walls |= {factors + (-value(item[0]),), factors + (-value(item[1]),)}
-            else:
-                known.append(factors + (value(item[0]),))
-        planes = [plane for plane in planes_of(program, ("=", one, other), known) | walls if any(plane[:-1])]
+        inner, planes = inner_and_planes(box, program, ("=", one, other))
         for point in points_of_all_parts(planes, len(inner)):
             numbers = dict(zip(inner, point))
             if all(value(box[place][0]) < x < value(box[place][1]) for place, x in numbers.items()):

@@ -4,6 +4,7 @@ import copy
 import unittest
 
 from unsureworks import errors
+from unsureworks.sheets import Sheet
 
 
 def run_examples(case, text):
@@ -78,6 +79,17 @@ PARAMETERS = {
 }
 
 
+def shown(args):
+    """What can be seen of arguments, some of which may be sheets."""
+    found = []
+    for arg in args:
+        if isinstance(arg, Sheet):
+            found.append((type(arg).__name__, [arg.at(k) for k in range(arg.version + 1)], arg.made))
+        else:
+            found.append(repr(arg))
+    return found
+
+
 class Case(unittest.TestCase):
     """A test case that makes each call by place, by name, and again."""
 
@@ -88,7 +100,7 @@ class Case(unittest.TestCase):
         ahead = copy.deepcopy(args)
         result = work(*args)
         self.all_alike(work, args, ("returned", repr(result)))
-        self.assertEqual(repr(args), repr(ahead))
+        self.assertEqual(shown(args), shown(ahead))
         return result
 
     def gives(self, work, args, expected):
@@ -101,7 +113,7 @@ class Case(unittest.TestCase):
         with self.subTest(call=(work.__name__, repr(args)[:300])):
             ahead = copy.deepcopy(args)
             self.all_alike(work, args, ("raised",) + told_error(error))
-            self.assertEqual(repr(args), repr(ahead))
+            self.assertEqual(shown(args), shown(ahead))
 
     def all_alike(self, work, args, expected):
         """A call by place, one by name, one by name the other way round, and one by place again all do the same."""

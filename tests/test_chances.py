@@ -5,7 +5,7 @@ import unittest
 from fractions import Fraction
 
 from tests.oracle import Draw, pair, poly, shared, value
-from tests.oracle_worlds import Worlds, total
+from tests.oracle_worlds import Worlds, constant, many, total
 from tests.support import Case, run_examples
 from unsureworks.bounds import MAX_COMPARED, MAX_MATTER, MAX_MATTER_THREE
 from unsureworks.chances import chance, chance_given, mean_of, mean_product
@@ -53,19 +53,6 @@ raises NoChance()
 NONE, ONE, HALF, LESS = (0, 1), (1, 1), (1, 2), (-1, 1)
 UNIT, COIN = even(NONE, ONE), (((NONE, HALF), (ONE, HALF)), ())
 SAY = ("<", 0, 1)
-
-
-def constant(number):
-    """A line that comes to a number."""
-    return "sum", (), pair(number)
-
-
-def many(saying, often):
-    """A saying with as many compared sayings, each the same."""
-    found = saying
-    for _ in range(often - 1):
-        found = ("and", found, saying)
-    return found
 
 
 class TestChance(Case):

@@ -29,6 +29,20 @@ INTERFACE = {
     "bodies": "point_in no_point_holds",
     "cells": "cells cells_error saying_cells",
     "worlds": "world_error is_numbers",
+    "integrals": "body_integral",
+    "chances": "chance chance_given mean_of mean_product",
+    "values": "spread_of by_parts unlike_at above_at surely_alike alike_in_spread",
+    "learnt": "are_apart tie_at look helped",
+    "lines": "chance_line sooner",
+    "sheettexts": "sheet_text read_sheet",
+}
+CLASSES = {
+    "sheets": {
+        "Sheet": {"__init__": "", "put": "name content", "drop": "name", "see": "remark", "forget": "place", "batch": "edits", "chance": "remark",
+                  "mean": "name", "spread": "name", "undo": "", "redo": "", "at": "version", "copy": "", "attempt": "work"},
+        "KeptSheet": {"__init__": "value remark least", "copy": ""},
+    },
+    "shells": {"Shell": {"__init__": "", "say": "line"}},
 }
 
 
@@ -42,6 +56,17 @@ class TestInterface(unittest.TestCase):
                     self.assertEqual(found.__module__, f"unsureworks.{module}")
                     self.assertTrue(inspect.isfunction(found))
                     self.assertEqual(list(inspect.signature(found).parameters), PARAMETERS[name].split())
+
+    def test_each_class_stands_in_its_module(self):
+        for module, classes in CLASSES.items():
+            for name, methods in classes.items():
+                found = getattr(importlib.import_module(f"unsureworks.{module}"), name)
+                self.assertTrue(inspect.isclass(found))
+                self.assertEqual(found.__module__, f"unsureworks.{module}")
+                for method, parameters in methods.items():
+                    with self.subTest((name, method)):
+                        self.assertIn(method, vars(found))
+                        self.assertEqual(list(inspect.signature(vars(found)[method]).parameters), ["self"] + parameters.split())
 
 
 class TestReadme(Case):

@@ -6,7 +6,7 @@ import unittest
 from fractions import Fraction
 
 from tests.oracle import Draw, is_pair, pair, poly, probes, shared, spread_mean, spread_places, value
-from tests.oracle_worlds import Worlds, total
+from tests.oracle_worlds import Worlds, constant, many, total
 from tests.support import Case, run_examples
 from unsureworks.chances import chance, chance_given, mean_of
 from unsureworks.errors import NoChance, TooMany
@@ -46,19 +46,6 @@ UNIT, COIN = even(NONE, ONE), (((NONE, HALF), (ONE, HALF)), ())
 MIXED = (((HALF, HALF),), ((NONE, ONE, (HALF,)),))
 SAY, NEVER, ALWAYS = ("<", 0, 1), ("<", 0, 0), ("=", 0, 0)
 PROGRAM = (("sum", (), HALF), ("sum", ((ONE, 0), (ONE, 1)), NONE), ("greatest", 0, 1))
-
-
-def constant(number):
-    """A line that comes to a number."""
-    return "sum", (), pair(number)
-
-
-def many(saying, often):
-    """A saying with as many compared sayings, each the same."""
-    found = saying
-    for _ in range(often - 1):
-        found = ("and", found, saying)
-    return found
 
 
 class LearntCase(Case):

@@ -6,7 +6,7 @@ import unittest
 from fractions import Fraction
 
 from tests.oracle import Draw, chance_up_to, pair, poly, probes, shared, spread_places, step_knots, step_value, value
-from tests.oracle_worlds import Worlds, at_t, total
+from tests.oracle_worlds import Worlds, at_t, constant, many, total
 from tests.support import Case, run_examples
 from unsureworks.chances import chance_given
 from unsureworks.errors import NoChance, TooMany
@@ -55,19 +55,6 @@ MIXED = (((HALF, HALF),), ((NONE, ONE, (HALF,)),))
 CLOCK = (("sum", (), NONE), ("shift", 1, ONE))
 SAY = ("<", 0, 1)
 SAME = ((None, False, None, False, "same"),)
-
-
-def constant(number):
-    """A line that comes to a number."""
-    return "sum", (), pair(number)
-
-
-def many(saying, often):
-    """A saying with as many compared sayings, each the same."""
-    found = saying
-    for _ in range(often - 1):
-        found = ("and", found, saying)
-    return found
 
 
 def steps(left, *items):

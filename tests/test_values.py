@@ -6,11 +6,11 @@ import unittest
 from fractions import Fraction
 
 from tests.oracle import Draw, all_values, chance_up_to, is_curve, pair, poly, probes, shared, spread_mean, spread_places, value
-from tests.oracle_worlds import Worlds, numbers_of_all_parts, total
+from tests.oracle_worlds import Worlds, constant, many, numbers_of_all_parts, total
 from tests.support import Case, run_examples
 from unsureworks.bounds import MAX_LONG
 from unsureworks.chances import chance, chance_given, mean_of
-from unsureworks.errors import NoChance, NotParts, Shared, TooMany
+from unsureworks.errors import NoChance, TooMany
 from unsureworks.making import greater, grown, joined, joined_often, lesser
 from unsureworks.spreads import even, heaped, lump, spread_error, tent
 from unsureworks.stepcurves import step_at
@@ -58,22 +58,9 @@ MIXED = (((HALF, HALF),), ((NONE, ONE, (HALF,)),))
 SAY = ("<", 0, 1)
 
 
-def constant(number):
-    """A line that comes to a number."""
-    return "sum", (), pair(number)
-
-
 def plain_sum(*names):
     """A line that adds up names."""
     return "sum", tuple((ONE, name) for name in names), NONE
-
-
-def many(saying, often):
-    """A saying with as many compared sayings, each the same."""
-    found = saying
-    for _ in range(often - 1):
-        found = ("and", found, saying)
-    return found
 
 
 class ValuesCase(Case):
@@ -425,7 +412,7 @@ class TestUnlike(ValuesCase):
 
     def test_places_between_ends(self):
         parted = shared([], [(0, 1, poly(1)), (2, 3, poly(1))])
-        for low, high, expected in ((0, 1, True), (1, 2, False), (Fraction(1, 2), Fraction(5, 2), True), (3, 9, False), (1, Fraction(21, 10), True)):
+        for low, high in ((0, 1), (1, 2), (Fraction(1, 2), Fraction(5, 2)), (3, 9), (1, Fraction(21, 10)), (-2, 0)):
             lines = (constant(low), constant(high), ("least", 0, 2), ("greatest", 1, 3))
             # Name 4 is the draw, but held between low and high; name 1 is low.
             found = above_at((parted,), lines, 4, 1)

@@ -9,7 +9,7 @@ from unsureworks.portions import course_of, portion_of
 from unsureworks.regions import boxes_of, regions_in, regions_where
 from unsureworks.roots import near, roots_of
 from unsureworks.spreads import heaped
-from unsureworks.stepcurves import step_at, step_scaled, steps_added, steps_tidied
+from unsureworks.stepcurves import step_scaled, steps_added, steps_tidied
 from unsureworks.sweeps import swept
 from unsureworks.values import spread_of
 

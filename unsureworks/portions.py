@@ -6,7 +6,7 @@ from unsureworks.faces import edges_over, integral_over, put_along, put_along_pl
 from unsureworks.forms import is_constant
 from unsureworks.grids import grid_of, grid_times
 from unsureworks.numbers import over, times
-from unsureworks.polynomials import at, constant_of, scaled
+from unsureworks.polynomials import constant_of, scaled
 from unsureworks.regions import is_piece, weight_of
 from unsureworks.rows import row_of
 

@@ -12,7 +12,8 @@ PACKAGE = pathlib.Path(__file__).resolve().parent.parent / "unsureworks"
 
 LIBRARY = {
     "math": "gcd lcm isqrt comb perm factorial", "heapq": "heappush heappop heapify heapreplace heappushpop",
-    "itertools": "product combinations permutations chain accumulate pairwise islice zip_longest",
+    # Not product, combinations, permutations: sheets are iterated over and have a length.
+    "itertools": "chain accumulate pairwise islice zip_longest",
     "collections": "defaultdict", "__future__": "annotations",
 }
 BUILTINS = set("""len range enumerate zip min max sum abs sorted reversed int str bool list tuple dict set frozenset

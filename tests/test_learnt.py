@@ -187,6 +187,14 @@ class TestTieAt(LearntCase):
         found = tie_at((UNIT,), lines, 0, middle, None)
         self.assertFalse(self.apart_at((UNIT,), lines, 0, middle, None, value(found)))
         self.assertTrue(self.apart_at((UNIT,), lines, 0, middle, None, Fraction(1, 2)))
+        # Lumps at both ends, and a saying that tells of neither: within the piece the difference is a line that is 0 once.
+        between = ("and", ("<", 1, 0), ("<", 0, 2))
+        lines = (constant(0), constant(1))
+        for low, high in itertools.product(range(1, 6), repeat=2):
+            world = (shared([(0, low), (2, high)], [(0, 1, poly(6))]),)
+            found = tie_at(world, lines, 0, between, None)
+            self.assertFalse(self.apart_at(world, lines, 0, between, None, value(found)))
+            self.assertTrue(self.apart_at(world, lines, 0, between, None, Fraction(low, low + high)))
 
     def test_errors(self):
         led = (("shift", 0, ONE),) + tuple(("greatest", 0, 1) for _ in range(4)) + (("sum", ((ONE, 3), (ONE, 4), (ONE, 5), (ONE, 6)), NONE), ("sum", ((ONE, 2),), NONE))

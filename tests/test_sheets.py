@@ -207,7 +207,7 @@ class TestEdits(SheetCase):
 
     def test_spoilt_contents(self):
         bad = [value for value in ODD_VALUES] + [
-            [], ["draw", UNIT], ("draw",), ("draw", UNIT, UNIT), ("DRAW", UNIT), ("sum",), ("sum", ()), ("sum", (), 0), ("sum", (), "0"), ("sum", [], NONE), ("sum", (), NONE, NONE),
+            [], (), ["draw", UNIT], ("draw",), ("draw", UNIT, UNIT), ("DRAW", UNIT), ("sum",), ("sum", ()), ("sum", (), 0), ("sum", (), "0"), ("sum", [], NONE), ("sum", (), NONE, NONE),
             ("sum", ((ONE, "x"),)), ("sum", (ONE, "x"), NONE), ("sum", ((ONE, "x", "y"),), NONE), ("sum", (["x", ONE],), NONE), ("sum", (("x", ONE),), NONE), ("sum", ((1, "x"),), NONE),
             ("sum", (((2, 4), "x"),), NONE), ("sum", ((ONE, "x"), (ONE, "x")), NONE), ("sum", ((ONE, "y"), (ONE, "x")), NONE), ("sum", ((ONE, "X"),), NONE), ("sum", ((ONE, 0),), NONE),
             ("sum", ((ONE, "seen"),), NONE), ("sum", ((ONE, "x"),), (1, 0)), ("sum", ((ONE, "x"),), (True, 1)), ("sum", {"x": ONE}, NONE), ("sum", "x", NONE), ("sum", ((ONE, ["x"]),), NONE),

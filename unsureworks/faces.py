@@ -16,8 +16,6 @@ from unsureworks.rows import plain_row, polynomial_of
 
 def integral_over(rays, planes, grid, bottom):
     """The integral of a grid, divided by bottom, over what is told as edges_over asks for; no vector is a direction."""
-    if len(planes[0]) == 1:
-        return reduced(grid, bottom)
     total = (0, 1)
     for low, high, polynomial in edges_over(rays, planes, grid, bottom):
         heap = heap_of(polynomial)
@@ -30,21 +28,19 @@ def edges_over(rays, planes, grid, bottom):
 
     It is the sum of the polynomials of all triples (low, high, polynomial) in the list that is returned, each of them
     from low to high alone. These are fractions, or None if there is no end. rays are pairs of a vector and of an
-    integer whose bits tell which of the planes it lies in, as those of a cone.
+    integer whose bits tell which of the planes it lies in, as those of a cone; of the vector only the last variable,
+    and the number behind it, are looked at.
     """
     face = (1 << len(rays)) - 1
     sides = []
     for place, plane in enumerate(planes):
         share = sum([1 << count for count, (_, tight) in enumerate(rays) if tight >> place & 1])
-        # The first bit of a cone's rays is about no plane.
-        if place > 0 and share != 0 and share != face:
+        if share != face:
             sides.append((plane, share))
     found = []
     for edge, row, under in _edges(face, sides, grid, bottom, len(planes[0]) - 1):
-        polynomial = trimmed(polynomial_of(row, under))
-        if polynomial != ():
-            first, last = rays[(edge & -edge).bit_length() - 1][0], rays[edge.bit_length() - 1][0]
-            found.append(_ends_of(first, last) + (polynomial,))
+        first, last = rays[(edge & -edge).bit_length() - 1][0], rays[edge.bit_length() - 1][0]
+        found.append(_ends_of(first, last) + (trimmed(polynomial_of(row, under)),))
     return found
 
 
@@ -80,7 +76,7 @@ def _edges(face, sides, grid, bottom, deep):
 
 
 def _greatest_sides(sides):
-    """The list of those sides that are no parts of others, each once."""
+    """The list of those sides that are no parts of others, each once; what is left out is less than a side."""
     found = {}
     for plane, share in sides:
         if not any([share & mask == share and share != mask for _, mask in sides]):

@@ -51,12 +51,13 @@ def grid_times(grid, line):
 
 
 def grid_heap(grid, deep):
-    """The pair of a grid and of an integer: divided by it, it is the integral of a grid from 0 up to the first one."""
+    """The pair of a grid and of an integer: divided by it, it is what is heaped up of a grid over the first variable.
+
+    There are two variables or more.
+    """
     under = 1
     for power in range(2, len(grid) + 1):
         under = lcm(under, power)
-    if deep == 1:
-        return [0] + [factor * (under // (power + 1)) for power, factor in enumerate(grid)], under
     return [[]] + [grid_scaled(inner, under // (power + 1), deep - 1) for power, inner in enumerate(grid)], under
 
 

@@ -35,11 +35,9 @@ def _heaped_where(world, program, name, saying):
 
 
 def _place_not_at_0(curve):
-    """Any fraction at which a step curve is not 0, or None; outside of all knots it is 0."""
+    """Any fraction at which a step curve, that is heaped up and is 0 outside of all knots, is not 0, or None."""
     items = curve[1]
-    for place, (knot, worth, polynomial) in enumerate(items):
-        if worth[0] != 0:
-            return knot
+    for place, (knot, _, polynomial) in enumerate(items):
         if polynomial != ():
             # A polynomial is 0 at no more places than its degree.
             step = over(less(items[place + 1][0], knot), (len(polynomial) + 1, 1))

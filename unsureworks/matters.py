@@ -5,11 +5,6 @@ from unsureworks.errors import TooMany, Unfit
 from unsureworks.forms import compared_in, hung_on, is_choice, names_in
 
 
-def limit_of(draws):
-    """How many choices and comparisons may matter beside so many draws."""
-    return MAX_MATTER_THREE if draws == MAX_DRAWS else MAX_MATTER
-
-
 def refuse_shifts(draws, program, names, sayings):
     """Raise Unfit if a name, or a saying that is not None, hangs on the name of a shift."""
     if any([line[0] == "shift" for line in _lines_for(draws, program, names, sayings)]):
@@ -20,7 +15,7 @@ def refuse_many(draws, program, names, sayings, more):
     """Raise TooMany if the choices on which all of them hang, what is compared in sayings, and more are too many."""
     choices = [line for line in _lines_for(draws, program, names, sayings) if is_choice(line)]
     compared = sum([len(compared_in(saying)) for saying in sayings if saying is not None])
-    limit = limit_of(draws)
+    limit = MAX_MATTER_THREE if draws == MAX_DRAWS else MAX_MATTER
     if len(choices) + compared + more > limit:
         raise TooMany(limit)
 

@@ -76,7 +76,7 @@ def page_dropped(page, name):
     """The page without a name, any value."""
     refuse_unset(page, [name])
     for other in page.ordered:
-        if other != name and name in names_used(page.contents[other]):
+        if name in names_used(page.contents[other]):
             raise InUse(other)
     for place, remark in enumerate(page.remarks):
         if name in names_in(remark):

@@ -95,10 +95,9 @@ def measure_of(box, region, name, asked):
     grid, bottom = _grid_in(box, order, [forms[other] for other in asked])
     turned = [plane[place] for place in order] + list(plane[inner:])
     put, further = put_along_plane(turned, _with_t(grid, inner))
-    rays = [([ray[place] for place in order[1:]] + list(ray[inner:]), tight) for ray, tight in level[1]]
     sides = []
     for other in planes + [plane]:
         sides.append(put_along(turned, [other[place] for place in order] + list(other[inner:])))
     share = times(weight_of(box), over((under, 1), (abs(vector[first]), 1)))
-    pieces = edges_over(rays, sides, put, bottom * further)
+    pieces = edges_over(level[1], sides, put, bottom * further)
     return [], [(low, high, scaled(polynomial, share)) for low, high, polynomial in pieces]

@@ -5,7 +5,6 @@ from unsureworks.chances import chance_given, mean_of
 from unsureworks.contents import is_draw, is_remark, line_text, names_used, remark_text
 from unsureworks.errors import BadSaying, TooMany
 from unsureworks.forms import compared_in, is_choice, is_word, names_in
-from unsureworks.matters import limit_of
 from unsureworks.pages import hung_names, refuse_unset
 from unsureworks.spreads import lump
 from unsureworks.values import spread_of
@@ -31,7 +30,7 @@ class Answers:
         hung = hung_names(page, names + _names_seen(page))
         draws = [name for name in hung if is_draw(page.contents[name])]
         others = [name for name in hung if not is_draw(page.contents[name])]
-        _refuse_many(page, draws, others, [asked] if word == "chance" else [])
+        _refuse_many(page, draws, others)
         text = _text_of(page, word, asked, hung)
         if text not in self.reckoned:
             self.reckoned[text] = _reckoned(page, word, asked, draws, others)
@@ -56,17 +55,19 @@ def _names_seen(page):
     return [name for remark in page.remarks for name in names_in(remark)]
 
 
-def _refuse_many(page, draws, others, sayings):
-    """Raise TooMany if there is too much on which the answer to a question hangs, its remark being in sayings."""
+def _refuse_many(page, draws, others):
+    """Raise TooMany if too many draws, or other names, make the world of a question, or too much was seen.
+
+    How much matters there is asked where the answer is reckoned.
+    """
     boxes = 1
     for name in draws:
         lumps, curve = page.contents[name][1]
         boxes *= len(lumps) + len(curve)
     choices = len([name for name in others if is_choice(page.contents[name])])
     seen = sum([len(compared_in(remark)) for remark in page.remarks])
-    matters = choices + seen + sum([len(compared_in(saying)) for saying in sayings])
     limits = ((len(draws), MAX_DRAWS), (boxes, MAX_BOXES), (len(others), MAX_LINES), (choices, MAX_CHOICES),
-              (seen, MAX_COMPARED), (matters, limit_of(len(draws))))
+              (seen, MAX_COMPARED))
     for many, limit in limits:
         if many > limit:
             raise TooMany(limit)

@@ -3,6 +3,7 @@
 import unittest
 from fractions import Fraction
 
+from tests import test_sheets
 from tests.oracle import Draw, pair
 from tests.oracle_worlds import Worlds
 from tests.support import ODD_VALUES, Case, outcome, run_examples
@@ -11,13 +12,8 @@ from unsureworks.sheets import KeptSheet, Sheet
 from unsureworks.sheettexts import read_sheet, sheet_text
 from unsureworks.spreads import even, lump
 
-EXAMPLES = """
->>> from unsureworks.sheets import KeptSheet, Sheet
->>> from unsureworks.spreads import even, lump
->>> s = Sheet()
->>> s.put("x", ("draw", even((0, 1), (1, 1)))), s.put("y", ("draw", even((0, 1), (2, 1))))
-(1, 2)
->>> k = KeptSheet(s, ("<", "x", "y"), (3, 4))
+# They go on with the kept sheet of the examples ahead.
+EXAMPLES = test_sheets.EXAMPLES + """
 >>> from unsureworks.sheettexts import read_sheet, sheet_text
 >>> sheet_text(k), read_sheet("b greatest a c\\nc sum 1/2 a 3\\na draw 0..1 1\\nseen not < a c").seen
 ('x draw 0..1 1\\ny draw 0..2 1/2', (('not', ('<', 'a', 'c')),))

@@ -67,11 +67,11 @@ def _edges(face, sides, grid, bottom, deep):
         if plane[0] == 0:
             continue
         beside = [(other, mask & share) for other, mask in greatest if mask != share and mask & share != 0]
+        further = [(put_along(plane, other), mask) for other, mask in beside]
         inner, under = put_along_plane(plane, heap)
         if plane[0] < 0:
             inner = grid_scaled(inner, -1, deep - 1)
-        sides_of_it = [(put_along(plane, other), mask) for other, mask in beside]
-        found += _edges(share, sides_of_it, inner, bottom * parts * under, deep - 1)
+        found += _edges(share, further, inner, bottom * parts * under, deep - 1)
     return found
 
 

@@ -38,12 +38,11 @@ def weight_of(box):
 
 def region_of(box):
     """The region that is all of a box, with the forms of its draws."""
-    inner = len([item for item in box if is_piece(item)])
+    draws = [draw for draw, item in enumerate(box) if is_piece(item)]
+    inner = len(draws)
     forms = []
-    count = 0
-    for item in box:
-        forms.append(draw_form(inner, count) if is_piece(item) else constant_form(inner, item[0]))
-        count += is_piece(item)
+    for draw, item in enumerate(box):
+        forms.append(draw_form(inner, draws.index(draw)) if is_piece(item) else constant_form(inner, item[0]))
     # The first plane stands for the bit of the rays that is about none.
     region = all_points(inner + 2), [(0,) * (inner + 2)], forms, None
     for item, form in zip(box, forms):

@@ -33,6 +33,8 @@ BARRED_NODES = {
     ast.Global: "L6", ast.AsyncFunctionDef: "L6", ast.Await: "L6", ast.AsyncFor: "L6", ast.AsyncWith: "L6",
     ast.GeneratorExp: "L7", ast.Import: "L16",
 }
+VIEWS = "enumerate zip reversed items keys values".split()
+CHANGES = "append clear extend insert pop remove reverse setdefault update add discard sort".split()
 PLAIN_NAME = re.compile("_|_?[A-Za-z][A-Za-z0-9_]*|__(init|eq|ne|repr|str|len|iter|contains|getitem|call)__")
 
 
@@ -113,6 +115,96 @@ def node_faults(node, own_methods):
             yield "L17", node
 
 
+def may_be(node):
+    """The names, attributes and items that a value may be, where it is one of these or a choice of them."""
+    if isinstance(node, ast.IfExp):
+        return may_be(node.body) + may_be(node.orelse)
+    if isinstance(node, ast.BoolOp):
+        return [found for value in node.values for found in may_be(value)]
+    if isinstance(node, ast.Subscript) and isinstance(node.slice, ast.Slice):
+        return []
+    return [node] if isinstance(node, (ast.Name, ast.Attribute, ast.Subscript)) else []
+
+
+def walked_by(node):
+    """What a loop over a value walks, without what only looks through it."""
+    if isinstance(node, ast.Call) and isinstance(node.func, ast.Name) and node.func.id in VIEWS:
+        return [found for argument in node.args for found in walked_by(argument)]
+    if isinstance(node, ast.Call) and isinstance(node.func, ast.Attribute) and node.func.attr in VIEWS:
+        return walked_by(node.func.value)
+    return may_be(node)
+
+
+def changed_by(node):
+    """The values of more than one item that a statement or a call changes itself, not by what it calls."""
+    if isinstance(node, ast.AugAssign):
+        return [node.target] + holders_of(node.target)
+    if isinstance(node, ast.Assign) or isinstance(node, ast.Delete):
+        return [found for target in node.targets for found in holders_of(target)]
+    if isinstance(node, ast.Call) and isinstance(node.func, ast.Attribute) and node.func.attr in CHANGES:
+        return may_be(node.func.value)
+    return []
+
+
+def holders_of(target):
+    """The values of which a target is an item."""
+    if isinstance(target, ast.Tuple):
+        return [found for part in target.elts for found in holders_of(part)]
+    return [target.value] if isinstance(target, ast.Subscript) else []
+
+
+def alike_in(function):
+    """A dict from each text of a name or attribute to the set of those that may stand for the same value."""
+    alike = {}
+    for node in ast.walk(function):
+        targets = node.targets if isinstance(node, ast.Assign) else []
+        for target in targets:
+            pairs = [(target, node.value)]
+            if isinstance(target, ast.Tuple) and isinstance(node.value, ast.Tuple):
+                pairs = list(zip(target.elts, node.value.elts))
+            for one, value in pairs:
+                texts = {ast.unparse(found) for found in [one] + may_be(value)}
+                together = texts.union(*[alike.get(text, set()) for text in texts])
+                alike.update({text: together for text in together})
+    return alike
+
+
+def root_of(node):
+    """The text of what a value is an item of, or an item of an item, or of the value itself."""
+    while isinstance(node, ast.Subscript):
+        node = node.value
+    return ast.unparse(node)
+
+
+def loop_faults(function):
+    """Faults of what is changed in a loop that walks it, by this name or another one of it."""
+    alike = alike_in(function)
+    for node in ast.walk(function):
+        heads, rows = [], []
+        if isinstance(node, ast.For):
+            heads, rows = [node.iter], node.body
+        elif isinstance(node, (ast.ListComp, ast.DictComp, ast.SetComp)):
+            heads, rows = [part.iter for part in node.generators], [node]
+        walked = {ast.unparse(found) for head in heads for found in walked_by(head)}
+        walked = walked.union(*[alike.get(text, set()) for text in walked])
+        for inner in [inner for row in rows for inner in ast.walk(row)]:
+            if walked & {ast.unparse(found) for found in changed_by(inner)}:
+                yield "L23", inner
+
+
+def own_walk_faults(node):
+    """Faults of a += or |=, an extend or an update that walks what it changes, or may do so."""
+    changed, walked = None, []
+    if isinstance(node, ast.AugAssign) and isinstance(node.op, (ast.Add, ast.BitOr)):
+        changed, walked = node.target, [node.value]
+    elif isinstance(node, ast.Call) and isinstance(node.func, ast.Attribute):
+        if node.func.attr == "extend" or node.func.attr == "update":
+            changed, walked = node.func.value, node.args
+    roots = [root_of(found) for value in walked for found in may_be(value)]
+    if changed is not None and root_of(changed) in roots:
+        yield "L23", node
+
+
 def name_faults(tree):
     """Faults of names: those that are bound, and those of builtins that are read."""
     imports = {found.name for node in tree.body if isinstance(node, ast.ImportFrom) for found in node.names}
@@ -148,6 +240,9 @@ def file_faults(path, own_methods):
     faults = list(top_faults(tree)) + list(name_faults(tree))
     for node in ast.walk(tree):
         faults += node_faults(node, own_methods)
+        faults += own_walk_faults(node)
+        if isinstance(node, ast.FunctionDef):
+            faults += loop_faults(node)
     for rule, node in faults:
         yield rule, node.lineno
 

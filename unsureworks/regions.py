@@ -96,6 +96,13 @@ def _with_form(region, form):
     return cone, planes, forms + [form], moment
 
 
+def _chosen_in(region, choice):
+    """The list of the regions, together a region, each with the form more that a choice takes there."""
+    a, word, b, x, y = choice
+    so, not_so = _compared(region, word, a, b)
+    return [_with_form(part, part[2][x]) for part in so] + [_with_form(part, part[2][y]) for part in not_so]
+
+
 def regions_in(box, program, names):
     """The list of all regions of a box, with the forms of all names on which names of a program hang."""
     needed = hung_on(len(box), program, names)
@@ -104,13 +111,7 @@ def regions_in(box, program, names):
         if len(box) + place not in needed:
             regions = [_with_form(region, None) for region in regions]
         elif is_choice(line):
-            a, word, b, x, y = choice_of(line)
-            further = []
-            for region in regions:
-                so, not_so = _compared(region, word, a, b)
-                further += [_with_form(part, part[2][x]) for part in so]
-                further += [_with_form(part, part[2][y]) for part in not_so]
-            regions = further
+            regions = [part for region in regions for part in _chosen_in(region, choice_of(line))]
         else:
             regions = [_with_form(region, form_of_line(region[2], line)) for region in regions]
     return regions

@@ -41,7 +41,7 @@ def _times_met(draws, program, name):
     met[name] = 1
     for place in range(len(program) - 1, -1, -1):
         for other in names_in_line(program[place]):
-            met[other] += met[draws + place]
+            met[other] = met[other] + met[draws + place]
     return met
 
 
